@@ -1,0 +1,1 @@
+"""Inkroot: a library in which no sign is typed twice."""
