@@ -1,4 +1,4 @@
-"""What the tests share: a test case that knows refusals and kept lists, and small rows to try."""
+"""What the tests share: a test case that knows refusals and kept lists, small rows to try, and sheets as plain lists."""
 
 import copy
 import itertools
@@ -22,17 +22,25 @@ class Case(unittest.TestCase):
         self.assertEqual(before, given)
         if isinstance(told, list):
             first = copy.deepcopy(told)
-            told.append((7, 9))
-            told.reverse()
+            spoil(told)
             self.assertEqual(before, given)
             told = doing(*given)
             self.assertEqual(first, told)
             for thing in given:
                 if isinstance(thing, list):
-                    thing.insert(0, (5, 6))
-                    thing.pop()
-                    thing.clear()
+                    spoil(thing)
             self.assertEqual(first, told)
+
+
+def spoil(thing):
+    """Change a list, and each list within it."""
+    for inner in thing:
+        if isinstance(inner, list):
+            spoil(inner)
+    thing.append((7, 9))
+    thing.reverse()
+    thing.pop()
+    thing.insert(0, (5, 6))
 
 
 def small_rows(many, top):
@@ -47,3 +55,25 @@ def listed(row):
 
 def scaled(row, factor):
     return [(start * factor, stop * factor) for start, stop in row]
+
+
+def item_shows(rows, item):
+    """The list of addresses that an item shows."""
+    if item[0] == "ink":
+        return list(range(item[1], item[2]))
+    return sheet_shows(rows, item[1])
+
+
+def sheet_shows(rows, sheet):
+    """The list of addresses that a sheet shows."""
+    return [address for item in rows[sheet] for address in item_shows(rows, item)]
+
+
+def quoted(numbers):
+    """A list of addresses as fixed quotes of one sign each."""
+    return [("ink", number, number + 1) for number in numbers]
+
+
+def chain(many, bottom):
+    """So many sheets, each with a window upon the next one alone; the last has the bottom items."""
+    return [[("win", number + 1)] for number in range(many - 1)] + [list(bottom)]

@@ -18,6 +18,11 @@ BUILT_IN = set(
     " ZeroDivisionError ArithmeticError OverflowError RuntimeError NotImplementedError AttributeError"
     " StopIteration".split()
 )
+METHODS = set(
+    "append clear copy count endswith extend find get index insert isalnum isalpha isdigit islower isspace isupper"
+    " items join keys ljust lower lstrip partition pop remove replace reverse rfind rjust rpartition rsplit rstrip"
+    " setdefault split splitlines startswith strip update upper values zfill bit_length".split()
+)
 WORDS = re.compile(
     r"\b(type|typing|typing_extensions|enum|Enum|IntEnum|StrEnum|Flag|IntFlag|Generic|Protocol|ABC|ABCMeta"
     r"|namedtuple|NamedTuple|TypedDict|TYPE_CHECKING|abstractmethod)\b|dataclass|overload|contextmanager"
@@ -76,6 +81,10 @@ class Rows(unittest.TestCase):
                 self.assertNotIsInstance(node.value, (float, complex))
                 if isinstance(node.value, str):
                     self.assertNotIn("%", node.value, f"{name}:{node.lineno}")
+            if isinstance(node, ast.Compare):
+                for sign, other in zip(node.ops, node.comparators):
+                    if isinstance(sign, (ast.Is, ast.IsNot)):
+                        self.assertIn(getattr(other, "value", ""), (None, True, False), f"{name}:{node.lineno}")
             if isinstance(node, (ast.For, ast.While)):
                 self.assertEqual([], node.orelse, f"{name}:{node.lineno}")
             if isinstance(node, (ast.FunctionDef, ast.ClassDef)):
@@ -122,6 +131,9 @@ class Rows(unittest.TestCase):
             elif isinstance(node, ast.Attribute) and isinstance(node.ctx, ast.Store):
                 values.add(node.attr)
         self.assertEqual(set(), methods & values)
+        for name, node in walked():
+            if isinstance(node, ast.Attribute):
+                self.assertIn(node.attr, methods | values | METHODS, f"{name}:{node.lineno}")
         for method in methods:
             self.assertTrue(method in TWO_UNDERSCORES or not method.startswith("_"), method)
 

@@ -1,0 +1,27 @@
+"""Blots: which ink is hidden."""
+
+from inkroot.spans import first_reaching, spread, without
+
+
+class Blots:
+    """Blotted and lifted rows, of which the last deed upon an address counts."""
+
+    def __init__(self):
+        self.stains = []
+
+    def blot(self, row):
+        """Hide all addresses of the row."""
+        self.stains = spread(self.stains + row)
+
+    def lift(self, row):
+        """Hide no address of the row any more."""
+        self.stains = without(self.stains, row)
+
+    def hides(self, address):
+        """Whether the address is hidden."""
+        stain = first_reaching(self.stains, address)
+        return stain < len(self.stains) and self.stains[stain][0] <= address
+
+    def row(self):
+        """The plain row of what is hidden, rising, each address once."""
+        return list(self.stains)
