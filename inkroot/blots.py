@@ -1,6 +1,6 @@
 """Blots: which ink is hidden."""
 
-from inkroot.spans import first_reaching, spread, without
+from inkroot.spans import spread, within, without
 
 
 class Blots:
@@ -19,8 +19,7 @@ class Blots:
 
     def hides(self, address):
         """Whether the address is hidden."""
-        stain = first_reaching(self.stains, address)
-        return stain < len(self.stains) and self.stains[stain][0] <= address
+        return within(self.stains, address)
 
     def row(self):
         """The plain row of what is hidden, rising, each address once."""

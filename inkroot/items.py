@@ -70,7 +70,7 @@ def parted(items, views, start, stop):
 
 def put_items(rows, sheet, place, items):
     """The sheet's items with others put in at a place."""
-    views = views_below(rows, sheet)
+    views = views_below(rows, [sheet])
     check_places(views[sheet], place, place)
     # Where nothing is put, a window at the place must not be broken.
     if not items:
@@ -80,7 +80,7 @@ def put_items(rows, sheet, place, items):
 
 def cut_items(rows, sheet, start, stop):
     """The sheet's items without what it shows from start to below stop."""
-    views = views_below(rows, sheet)
+    views = views_below(rows, [sheet])
     check_places(views[sheet], start, stop)
     # Where nothing is cut, a window at the place must not be broken.
     if start == stop:
@@ -90,7 +90,7 @@ def cut_items(rows, sheet, start, stop):
 
 def moved_items(rows, sheet, start, stop, to):
     """The sheet's items with what it shows from start to below stop moved to a place of what is left."""
-    views = views_below(rows, sheet)
+    views = views_below(rows, [sheet])
     check_places(views[sheet], start, stop)
     rest = size(views[sheet]) - (stop - start)
     if not 0 <= to <= rest:

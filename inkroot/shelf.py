@@ -46,6 +46,13 @@ class Shelf:
         if not 0 <= moment <= self.now():
             raise NoMoment(f"no moment {moment} up to {self.now()}")
 
+    def check_then(self, sheet, moment):
+        """Refuse a sheet or a moment that is not there, and a sheet that was not there yet at the moment."""
+        self.check_sheet(sheet)
+        self.check_moment(moment)
+        if moment < self.openings[sheet]:
+            raise NoSheet(f"sheet {sheet} was not there yet at moment {moment}")
+
     def row(self, sheet):
         """The sheet's own row."""
         self.check_sheet(sheet)
@@ -53,10 +60,7 @@ class Shelf:
 
     def row_then(self, sheet, moment):
         """The own row that the sheet had at a moment."""
-        self.check_sheet(sheet)
-        self.check_moment(moment)
-        if moment < self.openings[sheet]:
-            raise NoSheet(f"sheet {sheet} was not there yet at moment {moment}")
+        self.check_then(sheet, moment)
         return list(self.states[moment][sheet])
 
     def rows(self):

@@ -122,6 +122,12 @@ def first_reaching(holes, start):
     return low
 
 
+def within(holes, address):
+    """Whether the address lies in one of the holes; these rise and do not overlap."""
+    hole = first_reaching(holes, address)
+    return hole < len(holes) and holes[hole][0] <= address
+
+
 def left_over(start, stop, holes):
     """The stretches, some maybe empty, of one stretch outside the holes; these rise and do not overlap."""
     told = []

@@ -27,7 +27,7 @@ class Ties:
     def untie(self, number):
         """Take a tie away."""
         self.check_tie(number)
-        del self.pairs[number]
+        self.pairs.pop(number)
 
     def ends(self, number):
         """A tie's two ends, a pair of plain rows."""

@@ -11,10 +11,10 @@ def windows(items):
     return [item[1] for item in items if item[0] == "win"]
 
 
-def below(rows, sheet):
-    """The sheet and all sheets that its windows lead to, each once and behind all that stand as windows in it."""
+def below(rows, sheets):
+    """The sheets and all that their windows lead to, each once and behind all that stand as windows in it."""
     told = {}
-    waiting = [sheet]
+    waiting = list(sheets)
     while waiting:
         number = waiting[-1]
         missing = [other for other in windows(rows[number]) if other not in told]
@@ -33,17 +33,17 @@ def item_row(item, views):
     return [(item[1], item[2])]
 
 
-def views_below(rows, sheet):
-    """What the sheet and all sheets that its windows lead to show: a dict of plain rows."""
+def views_below(rows, sheets):
+    """What the sheets and all that their windows lead to show: a dict of plain rows."""
     views = {}
-    for number in below(rows, sheet):
+    for number in below(rows, sheets):
         views[number] = plain([stretch for item in rows[number] for stretch in item_row(item, views)])
     return views
 
 
 def shown(rows, sheet):
     """The plain row of what the sheet shows."""
-    return views_below(rows, sheet)[sheet]
+    return views_below(rows, [sheet])[sheet]
 
 
 def item_weight(item, weights):
@@ -53,12 +53,17 @@ def item_weight(item, weights):
     return item[2] - item[1]
 
 
+def weights_below(rows, sheets):
+    """What the sheets and all that their windows lead to weigh: a dict of whole numbers."""
+    weights = {}
+    for number in below(rows, sheets):
+        weights[number] = sum([item_weight(item, weights) for item in rows[number]])
+    return weights
+
+
 def weight(rows, sheet):
     """The sheet's weight."""
-    weights = {}
-    for number in below(rows, sheet):
-        weights[number] = sum([item_weight(item, weights) for item in rows[number]])
-    return weights[sheet]
+    return weights_below(rows, [sheet])[sheet]
 
 
 def way_between(rows, start, goal):

@@ -1,9 +1,11 @@
-"""What the tests share: a test case that knows refusals and kept lists, small rows to try, and sheets as plain lists."""
+"""What the tests share: a test case that knows refusals and kept lists, small rows to try, sheets as plain lists, and all
+that a library tells."""
 
 import copy
 import itertools
 import unittest
 
+from inkroot.desk import relived
 from inkroot.errors import InkError
 
 
@@ -77,3 +79,40 @@ def quoted(numbers):
 def chain(many, bottom):
     """So many sheets, each with a window upon the next one alone; the last has the bottom items."""
     return [[("win", number + 1)] for number in range(many - 1)] + [list(bottom)]
+
+
+def all_told(house):
+    """All that a library tells; nothing of it is shared with the library."""
+    sheets, moments = range(house.many()), range(house.now() + 1)
+    numbers = range(0, house.ink(), house.ink() // 20 + 1)
+    return copy.deepcopy([
+        house.now(), house.many(), house.ink(), house.hidden(), house.lines(), house.paid(),
+        [house.due(hand) for hand in range(12)],
+        [told_of(house, sheet) for sheet in sheets],
+        [tried(asked, sheet, moment) for sheet in sheets for moment in moments
+         for asked in (house.row_then, house.shown_then, house.text_then, house.since)],
+        [house.common(one, other) for one in sheets for other in sheets],
+        [(house.places(address), house.ties_on([(address, address + 1)])) for address in numbers],
+        [(tried(house.ends, number), tried(house.followed, number)) for number in range(6)],
+    ])
+
+
+def told_of(house, sheet):
+    """What a library tells of a sheet now."""
+    return [
+        house.row(sheet), house.shown(sheet), house.text(sheet), house.size(sheet), house.weight(sheet),
+        house.shares(sheet), house.ties_of(sheet), [house.found(sheet, word) for word in ("", "a", "#", "in", "ink")],
+    ]
+
+
+def tried(asked, *given):
+    """What a question tells, or the name of its refusal."""
+    try:
+        return asked(*given)
+    except InkError as refused:
+        return type(refused).__name__
+
+
+def library(*lines):
+    """A new library behind these lines."""
+    return relived(lines)
